@@ -1,0 +1,133 @@
+"""What the tests hold the program against: slow ways that follow the words of the document."""
+
+import itertools
+import random
+from fractions import Fraction
+from functools import lru_cache
+from heapq import heappop, heappush
+
+from everyspan.books import Book
+
+
+def live_windows(book, size):
+    """All lists of size days that stand in lists that go on both ways, found by trying all; size covers all widths."""
+    assert all(width <= size for width, _, _ in book.rules)
+    days = range(book.low, book.high + 1)
+    live = {row for row in itertools.product(days, repeat=size) if keeps_rules(row, book.rules)}
+    while True:
+        heads = {row[:-1] for row in live}
+        tails = {row[1:] for row in live}
+        left = {row for row in live if row[1:] in heads and row[:-1] in tails}
+        if left == live:
+            return live
+        live = left
+
+
+def keeps_rules(row, rules):
+    for width, least, most in rules:
+        for at in range(len(row) - width + 1):
+            if not least <= sum(row[at:at + width]) <= most:
+                return False
+    return True
+
+
+def tried_sums(book, size, lengths):
+    """The (least, greatest) sums of 0, 1, .. lengths days, found by trying all; None without rows."""
+    live = live_windows(book, size)
+    if not live:
+        return None
+    follow = {}
+    for row in live:
+        follow.setdefault(row[:-1], []).append(row)
+    low = {state: 0 for state in follow}
+    high = dict(low)
+    told = [(0, 0)]
+    for _ in range(lengths):
+        low = {state: min(row[-1] + low[row[1:]] for row in follow[state]) for state in follow}
+        high = {state: max(row[-1] + high[row[1:]] for row in follow[state]) for state in follow}
+        told.append((min(low.values()), max(high.values())))
+    return told
+
+
+def bounds_of(book):
+    return [(1, book.low, book.high)] + book.rules
+
+
+def tried_conflict(book):
+    bounds = bounds_of(book)
+    found = [(i, j) for i, one in enumerate(bounds) for j, other in enumerate(bounds)
+             if Fraction(one[1], one[0]) > Fraction(other[2], other[0])]
+    return min(found) if found else None
+
+
+def walked_sums(book, lengths):
+    """The greatest sums of -lengths to lengths days of a book with rows, by shortest ways over a wide line of days."""
+    bounds = bounds_of(book)
+    share = min(Fraction(most, width) for width, _, most in bounds)
+    scale, lift = share.denominator, share.numerator
+    moves = [(width, most * scale - lift * width) for width, _, most in bounds]
+    moves += [(-width, lift * width - least * scale) for width, least, _ in bounds]
+    end = lengths + 2 * max(width for width, _, _ in bounds)
+    best, queue = {0: 0}, [(0, 0)]
+    while queue:
+        cost, at = heappop(queue)
+        if cost > best[at]:
+            continue
+        for move, more in moves:
+            place = at + move
+            if -end <= place <= end and cost + more < best.get(place, cost + more + 1):
+                best[place] = cost + more
+                heappush(queue, (cost + more, place))
+    return {at: (best[at] + lift * at) // scale for at in range(-lengths, lengths + 1)}
+
+
+def halved_sums(book, length):
+    """The (least, greatest) sums of a far length, put together from those of about half of it, again and again."""
+    widest = max(width for width, _, _ in bounds_of(book))
+    near = walked_sums(book, 8 * widest)
+
+    @lru_cache(maxsize=None)
+    def greatest(sign, days):
+        if days <= 8 * widest:
+            return sign * near[days] if sign > 0 else near[-days]
+        middle = days // 2
+        return min(greatest(sign, middle + k) + greatest(sign, days - middle - k) for k in range(-widest, widest + 1))
+
+    return -greatest(-1, length), greatest(1, length)
+
+
+def small_books(seed, many, rules=3, widest=4, spread=2):
+    """Books of few values and short rules, with rows and without."""
+    chance = random.Random(seed)
+    books = []
+    for _ in range(many):
+        low = chance.randint(-3, 2)
+        high = low + chance.randint(0, spread)
+        told = []
+        for _ in range(chance.randint(0, rules)):
+            width = chance.randint(1, widest)
+            ends = sorted(chance.randint(low * width - 1, high * width + 1) for _ in range(2))
+            told.append((width, ends[0], ends[1]))
+        books.append(Book(low, high, told))
+    return books
+
+
+def limit_books(seed, many, rules=6, widest=40):
+    """Books with rows at the limits of the document; the rules of many of them are close to one another."""
+    chance = random.Random(seed)
+    books = []
+    while len(books) < many:
+        low = chance.randint(-20, 20)
+        high = chance.randint(low, 20)
+        share = chance.randint(low * 1000, high * 1000)
+        slack = chance.choice([0, 1, 3, 12, 60])
+        told = []
+        for _ in range(rules):
+            width = chance.randint(1, widest)
+            least = width * share // 1000 - chance.randint(0, slack)
+            most = -(-width * share // 1000) + chance.randint(0, slack)
+            told.append((width, least, most))
+        book = Book(low, high, told)
+        if tried_conflict(book) is None:
+            books.append(book)
+    return books

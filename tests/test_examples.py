@@ -1,0 +1,24 @@
+"""The examples of the document, word for word, as far as the program is built."""
+
+import unittest
+
+
+class ExamplesTest(unittest.TestCase):
+
+    def test_spans(self):
+        from everyspan.books import Book
+        from everyspan.spans import greatest_sum, least_sum, shares
+        plant, both = Book(0, 1, [(7, 2, 7)]), Book(0, 1, [(7, 2, 7), (3, 0, 1)])
+        told = [[least_sum(plant, length) for length in (7, 10, 13, 14)], greatest_sum(plant, 10), least_sum(plant, 10 ** 30) == 2 * (10 ** 30 - 1) // 7, shares(both), least_sum(both, 4), [greatest_sum(both, length) for length in (7, 8, 9, 10)], Book(0, 1, [(7, 3, 7), (3, 0, 1)]).conflict(), both.turned().rules]
+        self.assertEqual(repr(told), "[[2, 2, 3, 4], 10, True, ((2, 7), (1, 3)), 1, [3, 3, 3, 4], (1, 2), [(7, -7, -2), (3, -1, 0)]]")
+
+    def test_plain(self):
+        from everyspan.books import Book
+        from everyspan.plain import first_unlike, is_needless, kept_rules, same_rows, tells
+        plant, pairs = Book(0, 1, [(7, 2, 7)]), Book(0, 1, [(2, 1, 2), (4, 2, 4)])
+        told = [tells(plant, (14, 4, 14)), tells(plant, (13, 4, 13)), is_needless(pairs, 1), is_needless(pairs, 0), kept_rules(pairs), same_rows(pairs, Book(0, 1, [(2, 1, 2)])), first_unlike(plant, Book(0, 1, [(7, 2, 3)])), first_unlike(plant, Book(0, 1, [(6, 1, 6)]))]
+        self.assertEqual(repr(told), "[True, False, True, False, [(2, 1, 2)], True, (4, 'greatest'), (7, 'least')]")
+
+
+if __name__ == "__main__":
+    unittest.main()
