@@ -2,7 +2,7 @@
 
 from everyspan.bounds import first_conflict, is_rule
 from everyspan.errors import InvalidDays, InvalidNumber, InvalidRule
-from everyspan.sums import Sums
+from everyspan.sums import sums_of
 
 
 class Book:
@@ -68,5 +68,5 @@ class Book:
     def sums(self):
         """Return the sums of the book, which must have rows; they are found when they are first asked for."""
         if self._sums is None:
-            self._sums = Sums(self.bounds())
+            self._sums = sums_of(self.bounds())
         return self._sums

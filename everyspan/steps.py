@@ -69,3 +69,16 @@ def least_keys(moves, reach):
                     best[place + move] = key + more
                     heappush(heap, key + more)
     return best[:many]
+
+
+def undivided(sums):
+    """Return the lengths, from 1 on, whose greatest sums are less than those of any two parts of them together.
+
+    The sums are those of 0, 1, .. days. If a length has such parts, one of them may be an undivided length.
+    """
+    found = []
+    for length in range(1, len(sums)):
+        parts = [sums[part] + sums[length - part] for part in found]
+        if not parts or sums[length] < min(parts):
+            found.append(length)
+    return found

@@ -2,11 +2,13 @@
 
 import itertools
 import random
+from collections import deque
 from fractions import Fraction
 from functools import lru_cache
 from heapq import heappop, heappush
 
 from everyspan.books import Book
+from everyspan.known import sure_sums
 
 
 def live_windows(book, size):
@@ -112,12 +114,12 @@ def small_books(seed, many, rules=3, widest=4, spread=2):
     return books
 
 
-def limit_books(seed, many, rules=6, widest=40):
+def limit_books(seed, many, rules=6, widest=40, lowest=-20):
     """Books with rows at the limits of the document; the rules of many of them are close to one another."""
     chance = random.Random(seed)
     books = []
     while len(books) < many:
-        low = chance.randint(-20, 20)
+        low = chance.randint(lowest, 20)
         high = chance.randint(low, 20)
         share = chance.randint(low * 1000, high * 1000)
         slack = chance.choice([0, 1, 3, 12, 60])
@@ -131,3 +133,90 @@ def limit_books(seed, many, rules=6, widest=40):
         if tried_conflict(book) is None:
             books.append(book)
     return books
+
+
+def tried_rows(book, size, length):
+    """All lists of so many days, at least size, that stand in lists that go on both ways; size covers all widths."""
+    rows = live_windows(book, size)
+    follow = {}
+    for row in rows:
+        follow.setdefault(row[:-1], []).append(row[-1])
+    for at in range(length - size):
+        rows = [row + (day,) for row in rows for day in follow[row[at + 1:]]]
+    return sorted(rows)
+
+
+def walked_heights(book, known, begin, first, last):
+    """The most that the places from first to last can lie above begin, by shortest ways over a wide line of places.
+
+    All ends of known sums, which some row has, lie from first to last, too.
+    """
+    bounds = bounds_of(book)
+    beyond = 3 * max(width for width, _, _ in bounds)
+    places = range(first - beyond, last + beyond + 1)
+    moves = [(width, most) for width, _, most in bounds] + [(-width, -least) for width, least, _ in bounds]
+    ties = {}
+    for start, length, total in known:
+        ties.setdefault(start, []).append((length, total))
+        ties.setdefault(start + length, []).append((-length, -total))
+    best, waiting, queued, steps = {begin: 0}, deque([begin]), {begin}, 0
+    while waiting:
+        steps += 1
+        assert steps < 300 * len(places), "the known sums do not go together"
+        at = waiting.popleft()
+        queued.remove(at)
+        for move, more in moves + ties.get(at, []):
+            place, height = at + move, best[at] + more
+            if place in places and (place not in best or height < best[place]):
+                best[place] = height
+                if place not in queued:
+                    queued.add(place)
+                    waiting.append(place)
+    return {place: best[place] for place in range(first, last + 1)}
+
+
+def walked_wrong(book, known):
+    """The number of the first known sum that those ahead of it rule out, None if there is none, by shortest ways."""
+    ends = [begin for begin, _, _ in known] + [begin + length for begin, length, _ in known]
+    for number, (begin, length, total) in enumerate(known):
+        up = walked_heights(book, known[:number], begin, min(ends), max(ends))
+        down = walked_heights(book.turned(), turned_known(known[:number]), begin, min(ends), max(ends))
+        if not -down[begin + length] <= total <= up[begin + length]:
+            return number
+    return None
+
+
+def known_sums(chance, book, many, spread, longest):
+    """Known sums that go together, each with a total that the ones ahead of it leave, often the least or greatest."""
+    known = []
+    for _ in range(many):
+        begin, length = chance.randint(-spread, spread), chance.randint(1, longest)
+        least, greatest = sure_sums(book, known, begin, length)
+        known.append((begin, length, chance.choice([least, greatest, chance.randint(least, greatest)])))
+    return known
+
+
+def close_books(seed, many):
+    """Books with two rules of widths next to 40 around one share, and some more rules."""
+    chance = random.Random(seed)
+    books = []
+    while len(books) < many:
+        low, high = chance.choice([-20, 0]), chance.randint(1, 20)
+        share = chance.randint(low * 1000, high * 1000)
+        widths = chance.sample(range(34, 41), 2) + [chance.randint(1, 40) for _ in range(chance.randint(0, 4))]
+        told = []
+        for width in widths:
+            least, most = width * share // 1000, -(-width * share // 1000)
+            told.append((width, least - chance.randint(0, 1), most + chance.randint(0, 1)))
+        book = Book(low, high, told)
+        if tried_conflict(book) is None:
+            books.append(book)
+    return books
+
+
+def moved(known, by):
+    return [(begin + by, length, total) for begin, length, total in known]
+
+
+def turned_known(known):
+    return [(begin, length, -total) for begin, length, total in known]

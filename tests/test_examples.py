@@ -15,9 +15,25 @@ class ExamplesTest(unittest.TestCase):
     def test_plain(self):
         from everyspan.books import Book
         from everyspan.plain import first_unlike, is_needless, kept_rules, same_rows, tells
+        from everyspan.strict import strictest_least, strictest_most
         plant, pairs = Book(0, 1, [(7, 2, 7)]), Book(0, 1, [(2, 1, 2), (4, 2, 4)])
-        told = [tells(plant, (14, 4, 14)), tells(plant, (13, 4, 13)), is_needless(pairs, 1), is_needless(pairs, 0), kept_rules(pairs), same_rows(pairs, Book(0, 1, [(2, 1, 2)])), first_unlike(plant, Book(0, 1, [(7, 2, 3)])), first_unlike(plant, Book(0, 1, [(6, 1, 6)]))]
-        self.assertEqual(repr(told), "[True, False, True, False, [(2, 1, 2)], True, (4, 'greatest'), (7, 'least')]")
+        told = [tells(plant, (14, 4, 14)), tells(plant, (13, 4, 13)), is_needless(pairs, 1), is_needless(pairs, 0), kept_rules(pairs), same_rows(pairs, Book(0, 1, [(2, 1, 2)])), first_unlike(plant, Book(0, 1, [(7, 2, 3)])), first_unlike(plant, Book(0, 1, [(6, 1, 6)])), strictest_least(plant, 10), strictest_most(plant, 10)]
+        self.assertEqual(repr(told), "[True, False, True, False, [(2, 1, 2)], True, (4, 'greatest'), (7, 'least'), 10, 3]")
+
+    def test_known(self):
+        from everyspan.books import Book
+        from everyspan.early import early_day, early_days, early_place, late_days
+        from everyspan.known import first_wrong, sure_sums
+        both = Book(0, 1, [(7, 2, 7), (3, 0, 1)])
+        told = [sure_sums(both, [(0, 3, 1)], 3, 4), sure_sums(both, [], 10 ** 30, 7), first_wrong(both, [(0, 3, 1), (3, 4, 0)]), early_days(both, [], 5, 7), late_days(both, [], 5, 7), early_day(both, [], 0, 3 * 10 ** 29), early_place(both, [], 0, 4), early_days(both, [(2, 1, 1)], 0, 5)]
+        self.assertEqual(repr(told), "[(1, 2), (2, 3), 1, [1, 0, 0, 1, 0, 0, 1], [0, 0, 0, 1, 0, 0, 1], 1, 9, [0, 0, 1, 0, 0]]")
+
+    def test_seen(self):
+        from everyspan.books import Book
+        from everyspan.seen import first_lost, next_days, stands
+        plant, both = Book(0, 1, [(7, 2, 7)]), Book(0, 1, [(7, 2, 7), (3, 0, 1)])
+        told = [first_lost(both, [1, 1]), next_days(plant, [0, 0, 0, 0, 0]), next_days(plant, [1, 0, 0, 0, 0]), stands(both, [0, 0, 0, 1]), stands(both, [0, 0, 0, 0]), next_days(both, [0, 0, 0, 0])]
+        self.assertEqual(repr(told), "[1, (1, 1), (0, 1), True, False, None]")
 
 
 if __name__ == "__main__":

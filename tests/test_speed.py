@@ -1,15 +1,31 @@
 """The program is asked many questions in a row; the limits are generous, for slow machines."""
 
+import random
 import time
 import unittest
 
 from everyspan.books import Book
+from everyspan.early import early_day, early_days, early_place, late_day, late_days
+from everyspan.known import first_wrong, sure_sums
 from everyspan.plain import first_unlike, kept_rules, same_rows
+from everyspan.seen import first_lost, next_days, stands
 from everyspan.spans import greatest_sum, least_sum
-from tests.helper import limit_books
+from everyspan.strict import strictest_least, strictest_most
+from tests.helper import close_books, known_sums, limit_books
 from tests.test_spans import SLOW
 
 PARTS = [(book.low, book.high, book.rules) for book in limit_books(40, 300) + SLOW]
+
+
+def cases(seed, many, spread, longest):
+    """The parts of books at the limits, many known sums, and begins and lengths of stretches."""
+    chance = random.Random(seed)
+    found = []
+    for book in limit_books(seed, 100) + limit_books(seed, 60, lowest=0) + close_books(seed, 40) + SLOW:
+        known = known_sums(chance, book, many, spread, longest)
+        begin, length = chance.randint(-spread, spread), chance.randint(0, longest)
+        found.append(((book.low, book.high, book.rules), known, begin, length))
+    return found
 
 
 class SpeedTest(unittest.TestCase):
@@ -36,6 +52,48 @@ class SpeedTest(unittest.TestCase):
         self.check_seconds(3, lambda: [same_rows(Book(*one), Book(*other)) for one, other in pairs])
         self.check_seconds(3, lambda: [first_unlike(Book(*one), Book(*other)) for one, other in pairs])
         self.check_seconds(3, lambda: [first_unlike(Book(*one), Book(*one)) for one in PARTS])
+
+    def check_questions(self, limit, cases):
+        """A few hundred questions of each kind, of new books and of the same ones."""
+        books = [Book(*parts) for parts, _, _, _ in cases]
+        new = [Book(*parts) for parts, _, _, _ in cases]
+        for told in (new, books):
+            asked = [(book, *case[1:]) for book, case in zip(told, cases)]
+            from_0 = [row for row in asked if row[0].low >= 0]
+            self.check_seconds(limit, lambda: [first_wrong(*row[:2]) for row in asked])
+            self.check_seconds(limit, lambda: [sure_sums(*row) for row in asked])
+            self.check_seconds(limit, lambda: [early_day(*row[:3], row[2] + row[3]) for row in asked])
+            self.check_seconds(limit, lambda: [late_day(*row[:3], row[2] + row[3]) for row in asked])
+            self.check_seconds(limit, lambda: [early_days(*row[:3], 120) for row in asked])
+            self.check_seconds(limit, lambda: [late_days(*row[:3], 120) for row in asked])
+            self.check_seconds(limit, lambda: [early_place(*row[:3], 1 + row[3] // 2) for row in from_0])
+            self.check_seconds(limit, lambda: [early_place(*row[:3], 10 ** 30) for row in from_0])
+
+    def test_four_known_sums(self):
+        for spread, longest in ((100, 60), (1600, 1600), (10 ** 30, 10 ** 30)):
+            self.check_questions(3, cases(41, 4, spread, longest))
+
+    def test_twelve_known_sums(self):
+        for spread, longest in ((200, 60), (10 ** 30, 10 ** 30)):
+            self.check_questions(4, cases(42, 12, spread, longest))
+
+    def test_long_lists(self):
+        told = [(Book(*parts), known, begin) for parts, known, begin, _ in cases(43, 4, 100, 60)[-60:]]
+        self.check_seconds(4, lambda: [early_days(*row, 3300) for row in told])
+        self.check_seconds(4, lambda: [late_days(*row, 3300) for row in told])
+
+    def test_seen(self):
+        told = [(Book(*parts), late_days(Book(*parts), known, begin, 120))
+                for parts, known, begin, _ in cases(44, 4, 100, 60)]
+        for _ in range(2):
+            self.check_seconds(3, lambda: [stands(*row) for row in told])
+            self.check_seconds(3, lambda: [first_lost(*row) for row in told])
+            self.check_seconds(3, lambda: [next_days(*row) for row in told])
+
+    def test_strict(self):
+        for width in (7, 40, 10 ** 30):
+            self.check_seconds(2, lambda: [strictest_least(Book(*parts), width) for parts in PARTS])
+            self.check_seconds(2, lambda: [strictest_most(Book(*parts), width) for parts in PARTS])
 
 
 if __name__ == "__main__":
