@@ -2,6 +2,7 @@
 
 from everyspan.bounds import first_conflict, is_rule
 from everyspan.errors import InvalidDays, InvalidNumber, InvalidRule
+from everyspan.spots import Spots
 from everyspan.sums import sums_of
 
 
@@ -19,6 +20,7 @@ class Book:
         self._rules = list(rules)
         self._conflict = first_conflict(self.bounds())
         self._sums = None
+        self._spots = None
 
     @property
     def low(self):
@@ -70,3 +72,9 @@ class Book:
         if self._sums is None:
             self._sums = sums_of(self.bounds())
         return self._sums
+
+    def spots(self):
+        """Return the spots of the book's lists, which must have rows; they are found when they are first asked for."""
+        if self._spots is None:
+            self._spots = Spots(self.sums())
+        return self._spots

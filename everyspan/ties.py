@@ -19,6 +19,14 @@ class Ties:
         # The item j of the item i: the most that the first place of tie j can lie above that of tie i.
         self._rows = []
 
+    def copied(self):
+        """Return ties like these, to which others can be added without these."""
+        other = Ties(self._sums)
+        other._ties = list(self._ties)
+        # Rows are replaced, never changed.
+        other._rows = self._rows
+        return other
+
     def add_tie(self, first, last, total):
         """Add a tie and return True; change nothing and return False if it contradicts the others."""
         ways, last_ways = self._ways(first), self._ways(last)

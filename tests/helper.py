@@ -135,6 +135,45 @@ def limit_books(seed, many, rules=6, widest=40, lowest=-20):
     return books
 
 
+def day_books(seed, many):
+    """Books with rows, days from 0 to 1 (of 0 or of 1 alone, too) and up to six rules of widths to 7."""
+    chance = random.Random(seed)
+    books = []
+    while len(books) < many:
+        low, high = chance.choice([(0, 1)] * 10 + [(0, 0), (1, 1)])
+        share, slack = chance.random(), chance.choice([0, 1, 2])
+        told = []
+        for width in chance.sample(range(1, 8), chance.randint(0, 6)):
+            least = int(width * share) - chance.randint(0, slack)
+            most = int(width * share) + 1 + chance.randint(0, slack)
+            told.append((width, chance.choice([least, least, 0]), max(0, chance.choice([most, most, width]))))
+        if all(least <= most for _, least, most in told):
+            book = Book(low, high, told)
+            if tried_conflict(book) is None:
+                books.append(book)
+    return books
+
+
+def tried_lists(book, length):
+    """All lists of so many days that stand, in their sequence, for widths to 7, found by trying all."""
+    if length >= 7:
+        return [list(row) for row in tried_rows(book, 7, length)]
+    return [list(row) for row in sorted({row[:length] for row in live_windows(book, 7)})]
+
+
+def walked_count(book, length):
+    """How many lists of so many days, at least 7, stand, for widths to 7, by walks over lists of 7 days."""
+    many = dict.fromkeys(live_windows(book, 7), 1)
+    for _ in range(length - 7):
+        longer = dict.fromkeys(many, 0)
+        for row, told in many.items():
+            for day in (book.low, book.high)[:book.high - book.low + 1]:
+                if row[1:] + (day,) in longer:
+                    longer[row[1:] + (day,)] += told
+        many = longer
+    return sum(many.values())
+
+
 def tried_rows(book, size, length):
     """All lists of so many days, at least size, that stand in lists that go on both ways; size covers all widths."""
     rows = live_windows(book, size)

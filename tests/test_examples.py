@@ -1,4 +1,4 @@
-"""The examples of the document, word for word, as far as the program is built."""
+"""The examples of the document, word for word."""
 
 import unittest
 
@@ -30,10 +30,25 @@ class ExamplesTest(unittest.TestCase):
 
     def test_seen(self):
         from everyspan.books import Book
+        from everyspan.counts import count_stretches, nth_stretch, stretch_index
         from everyspan.seen import first_lost, next_days, stands
         plant, both = Book(0, 1, [(7, 2, 7)]), Book(0, 1, [(7, 2, 7), (3, 0, 1)])
-        told = [first_lost(both, [1, 1]), next_days(plant, [0, 0, 0, 0, 0]), next_days(plant, [1, 0, 0, 0, 0]), stands(both, [0, 0, 0, 1]), stands(both, [0, 0, 0, 0]), next_days(both, [0, 0, 0, 0])]
-        self.assertEqual(repr(told), "[1, (1, 1), (0, 1), True, False, None]")
+        told = [first_lost(both, [1, 1]), next_days(plant, [0, 0, 0, 0, 0]), next_days(plant, [1, 0, 0, 0, 0]), stands(both, [0, 0, 0, 1]), stands(both, [0, 0, 0, 0]), next_days(both, [0, 0, 0, 0]), count_stretches(both, 3), nth_stretch(both, 3, 1), stretch_index(both, [1, 0, 0]), count_stretches(both, 0)]
+        self.assertEqual(repr(told), "[1, (1, 1), (0, 1), True, False, None, 4, [0, 0, 1], 3, 1]")
+
+    def test_planners(self):
+        from everyspan.books import Book
+        from everyspan.planners import Planner, ShortPlanner
+        planner = Planner(Book(0, 1, [(7, 2, 7)]))
+        told = [planner.know(0, 3, 1), planner.sure(3, 4), planner.bind((3, 0, 1)), planner.sure(3, 4), planner.known, len(planner.book.rules), planner.undo(), planner.forget(0), len(planner), planner.story(), planner == ShortPlanner(planner.book, 3)]
+        self.assertEqual(repr(told), "[None, (1, 4), None, (1, 2), [(0, 3, 1)], 2, None, None, 0, [('know', 0, 3, 1), ('forget', 0)], False]")
+
+    def test_texts(self):
+        from everyspan.books import Book
+        from everyspan.readings import read_book, read_known
+        from everyspan.texts import show_book, show_known
+        told = [show_book(Book(0, 1, [(7, 2, 7), (3, 0, 1)])), show_book(Book(-2, 5, [])), show_known([(0, 3, 1), (-7, 2, -1)]), show_known([]), read_book('0..1; 7: 2..7').rules, read_known('0+3=1')]
+        self.assertEqual(repr(told), "['0..1; 7: 2..7; 3: 0..1', '-2..5', '0+3=1 -7+2=-1', '-', [(7, 2, 7)], [(0, 3, 1)]]")
 
 
 if __name__ == "__main__":

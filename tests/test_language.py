@@ -8,7 +8,8 @@ import unittest
 FOLDER = os.path.join(os.path.dirname(os.path.dirname(os.path.abspath(__file__))), "everyspan")
 LIBRARY = {"heapq": {"heappush", "heappop"}, "math": {"gcd"}}
 BUILTINS = {"len", "range", "enumerate", "zip", "min", "max", "sum", "abs", "sorted", "reversed", "int", "str", "bool",
-            "list", "tuple", "dict", "isinstance", "ord", "repr", "any", "all", "divmod", "ValueError", "property"}
+            "list", "tuple", "dict", "isinstance", "ord", "repr", "any", "all", "divmod", "ValueError", "property",
+            "super"}
 BARRED = (ast.Div, ast.GeneratorExp, ast.Global, ast.AsyncFunctionDef, ast.Await, ast.Lambda, ast.Pow, ast.Set,
           ast.SetComp, ast.AnnAssign, ast.Import)
 MODULE_LEVEL = (ast.Expr, ast.ImportFrom, ast.FunctionDef, ast.ClassDef, ast.Assign)

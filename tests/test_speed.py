@@ -5,13 +5,17 @@ import time
 import unittest
 
 from everyspan.books import Book
+from everyspan.counts import count_stretches, nth_stretch, stretch_index
 from everyspan.early import early_day, early_days, early_place, late_day, late_days
 from everyspan.known import first_wrong, sure_sums
 from everyspan.plain import first_unlike, kept_rules, same_rows
+from everyspan.planners import Planner, ShortPlanner
+from everyspan.readings import read_book, read_known
 from everyspan.seen import first_lost, next_days, stands
 from everyspan.spans import greatest_sum, least_sum
 from everyspan.strict import strictest_least, strictest_most
-from tests.helper import close_books, known_sums, limit_books
+from everyspan.texts import show_book, show_known
+from tests.helper import close_books, day_books, known_sums, limit_books
 from tests.test_spans import SLOW
 
 PARTS = [(book.low, book.high, book.rules) for book in limit_books(40, 300) + SLOW]
@@ -89,6 +93,50 @@ class SpeedTest(unittest.TestCase):
             self.check_seconds(3, lambda: [stands(*row) for row in told])
             self.check_seconds(3, lambda: [first_lost(*row) for row in told])
             self.check_seconds(3, lambda: [next_days(*row) for row in told])
+
+    def test_counts(self):
+        """First counts of new books, the rules with the most different lists among them, then of the same books."""
+        parts = [(book.low, book.high, book.rules) for book in day_books(45, 200)]
+        parts += [(0, 1, [(7, least, most), (5, 1, 4)]) for least in range(6) for most in range(max(least, 2), 8)] * 4
+        for length in (7, 60):
+            self.check_seconds(3, lambda: [count_stretches(Book(*part), length) for part in parts])
+            self.check_seconds(3, lambda: [nth_stretch(Book(*part), length, 0) for part in parts])
+        books = [Book(*part) for part in parts]
+        rows = [nth_stretch(book, 60, count_stretches(book, 60) // 2) for book in books]
+        self.check_seconds(2, lambda: [count_stretches(book, length) for book in books for length in (3, 30, 60)])
+        self.check_seconds(2, lambda: [nth_stretch(book, length, 0) for book in books for length in (3, 30, 60)])
+        self.check_seconds(2, lambda: [stretch_index(book, row) for book, row in zip(books, rows)])
+
+    def check_planners(self, limit, cases):
+        """A few hundred calls of each kind, of planners that go on."""
+        books = [Book(*parts) for parts, _, _, _ in cases]
+        rules = [(13, least_sum(book, 13), greatest_sum(book, 13) + 1) for book in books]
+        planners = [ShortPlanner(book, 12) if len(book.rules) & 1 else Planner(book) for book in books]
+        asked = list(zip(planners, cases, rules))
+        self.check_seconds(limit, lambda: [planner.know(*told) for planner, case, _ in asked for told in case[1]])
+        self.check_seconds(limit, lambda: [planner.sure(*case[2:]) for planner, case, _ in asked])
+        self.check_seconds(limit, lambda: [planner.bind(rule) for planner, _, rule in asked])
+        self.check_seconds(limit, lambda: [planner.sure(*case[2:]) for planner, case, _ in asked])
+        self.check_seconds(limit, lambda: [planner.forget(1) for planner in planners])
+        self.check_seconds(limit, lambda: [planner.undo() for planner in planners])
+        self.check_seconds(limit, lambda: [(planner.known, planner.story(), len(planner)) for planner in planners])
+        self.check_seconds(limit, lambda: [planner == other for planner in planners for other in planners[:20]])
+        self.check_seconds(limit, lambda: [planner.undo() for planner in planners])
+
+    def test_planners(self):
+        for many, spread, longest in ((4, 100, 60), (12, 200, 60), (12, 10 ** 30, 10 ** 30)):
+            self.check_planners(4, cases(46, many, spread, longest))
+
+    def test_texts(self):
+        chance = random.Random(47)
+        many = 10 ** 30
+        known = [[(chance.randint(-many, many), chance.randint(1, many), -number) for number in range(12)]
+                 for _ in range(200)]
+        books = [Book(*parts) for parts in PARTS]
+        self.check_seconds(2, lambda: [read_book(show_book(book)) for book in books])
+        self.check_seconds(2, lambda: [read_known(show_known(told)) for told in known])
+        self.check_seconds(2, lambda: [read_book("0..1" + "; 7: 2..7" * 221) for _ in range(200)])
+        self.check_seconds(2, lambda: [read_known(" ".join(["0+3=1"] * 333)) for _ in range(200)])
 
     def test_strict(self):
         for width in (7, 40, 10 ** 30):
